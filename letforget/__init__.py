@@ -1,0 +1,1 @@
+"""Letforget: a keeper that knows which ended programs it may forget."""
