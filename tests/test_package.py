@@ -18,7 +18,7 @@ class Package(unittest.TestCase):
 
     def test_there_are_files(self):
         names = [name for name, _ in sources()]
-        for name in ["__init__.py", "errors.py", "marks.py", "steps.py"]:
+        for name in ["__init__.py", "cover.py", "errors.py", "marks.py", "memory.py", "steps.py", "web.py"]:
             self.assertIn(name, names)
 
     def test_only_the_package_itself_is_imported(self):
