@@ -1,5 +1,6 @@
 """Slow models that follow the words of the document, for the tests to compare with."""
 
+import copy
 import itertools
 
 WORDS = ["none", "own", "read", "write"]
@@ -20,31 +21,37 @@ def all_paths(arcs, start, between=None):
 
 
 class SlowKeeper:
-    """A keeper without a limit, by points 6 to 9 and 12 to 14; it only takes steps of the right programs."""
+    """A keeper without a limit, by points 6 to 14, 19, 20 and 22; it only takes steps of the right programs."""
 
     def __init__(self):
         self.running = []
         self.ended = []
         self.arcs = []
         self.touched = {}
+        self.now = 0
+        self.began_at = {}
+        self.ended_at = {}
 
     def take(self, step):
         """Take a step if it is let, and tell whether it is."""
         program = step[1]
         clashes = self.clashes(step)
-        if any(path[-1] in clashes for path in all_paths(self.arcs, program)):
+        if self.rings(step):
             return False
+        self.now += 1
         for other in clashes:
             if (other, program) not in self.arcs:
                 self.arcs.append((other, program))
         if step[0] == "begin":
             self.running.append(program)
             self.touched[program] = {}
+            self.began_at[program] = self.now
         elif step[0] == "read":
             self.touched[program].setdefault(step[2], "read")
         elif step[0] == "close":
             self.running.remove(program)
             self.ended.append(program)
+            self.ended_at[program] = self.now
             self.touched[program].update({thing: "write" for thing in step[2]})
         else:
             self.running.remove(program)
@@ -60,11 +67,63 @@ class SlowKeeper:
             return [name for name in others if any(thing in self.touched[name] for thing in step[2])]
         return []
 
+    def rings(self, step):
+        """Give each path for which a step is refused, none if it is let."""
+        clashes = self.clashes(step)
+        return [path for path in all_paths(self.arcs, step[1]) if path[-1] in clashes]
+
+    def copy(self):
+        return copy.deepcopy(self)
+
+    def forget(self, lot):
+        """Forget a lot, whether it may go or not."""
+        rest = [name for name in self.running + self.ended if name not in lot]
+        self.arcs = [(one, other) for one in rest for other in rest
+                     if any(path[-1] == other for path in all_paths(self.arcs, one, lot))]
+        self.ended = [name for name in self.ended if name not in lot]
+        for name in lot:
+            del self.touched[name]
+
+    def led(self, program):
+        """Give the programs that a running program leads to."""
+        return {path[-1] for path in all_paths(self.arcs, program, self.ended)}
+
+    def may_go(self, lot):
+        """Tell whether a lot may go, by the words of point 20."""
+        for name in lot:
+            for thing, word in self.touched[name].items():
+                for program in self.running:
+                    led = self.led(program)
+                    others = [other for other in self.ended if other in led and other not in lot]
+                    words = [self.touched[other].get(thing, "none") for other in others]
+                    if name in led and not any(WORDS.index(some) >= WORDS.index(word) for some in words):
+                        return False
+        return True
+
+    def order(self):
+        """Give the ended programs in their serial order."""
+        order, left = [], list(self.ended)
+        while left:
+            free = [name for name in left if not any((other, name) in self.arcs for other in left)]
+            order.append(min(free, key=left.index))
+            left.remove(order[-1])
+        return order
+
+    def needs(self):
+        """Give the needs as triples, ascending."""
+        found = []
+        for program, thing, word in self.memory()[2]:
+            if word != "own":
+                led = self.led(program)
+                names = [name for name in self.ended if name in led and self.touched[name].get(thing) == word]
+                found.append((program, thing, names))
+        return found
+
     def memory(self):
         """Give the running programs, leads and marks, each ascending."""
         leads, marks = [], []
         for program in sorted(self.running):
-            led = {path[-1] for path in all_paths(self.arcs, program, self.ended)}
+            led = self.led(program)
             leads += [(program, other) for other in sorted(self.running) if other in led]
             met = [self.touched[name] for name in led if name in self.ended]
             for thing in sorted({thing for touched in self.touched.values() for thing in touched}):
@@ -132,6 +191,45 @@ def all_memories(running, things):
             leads = [pair for pair, taken in zip(pairs, some) if taken]
             marks = [place + (word,) for place, word in zip(places, words) if word != "none"]
             yield running, leads, marks
+
+
+def told(keeper):
+    """Give all that a keeper tells of itself, without objects that are compared by identity."""
+    held = keeper.running + list(keeper)
+    touched = [(name, [(thing, mark.word) for thing, mark in keeper[name]]) for name in held]
+    return (keeper.limit, keeper.running, list(keeper), keeper.timeline(), touched, keeper.arcs(), keeper.order(),
+            parts(keeper.memory()), keeper.needs())
+
+
+def told_slowly(slow, limit=12):
+    """Give the same of a slow keeper."""
+    held = sorted(slow.running) + slow.ended
+    moments = {name: slow.began_at[name] for name in slow.running}
+    moments.update({name: slow.ended_at[name] for name in slow.ended})
+    touched = [(name, sorted(slow.touched[name].items())) for name in held]
+    return (limit, sorted(slow.running), slow.ended, sorted(held, key=moments.get), touched, sorted(slow.arcs),
+            slow.order(), slow.memory(), slow.needs())
+
+
+def random_step(chance, slow, names, things, most=5, most_ended=7):
+    """Give a step of the right program, which a slow keeper lets or refuses."""
+    free = [name for name in names if name not in slow.touched]
+    form = chance.choice(["begin"] * 6 + ["read"] * 14 + ["close"] * 6 + ["quit"])
+    if not slow.running or (form == "begin" and free and len(slow.running) < most):
+        return ("begin", chance.choice(free))
+    program = chance.choice(slow.running)
+    if form == "close" and len(slow.ended) < most_ended:
+        # Mostly the one that began last, so that others still run that have read what it writes.
+        program = chance.choice([program, slow.running[-1], slow.running[-1]])
+        return ("close", program, tuple(chance.sample(things, min(len(things), chance.choice([0, 1, 1, 2, 3])))))
+    if form == "quit":
+        return ("quit", program)
+    return ("read", program, chance.choice(things))
+
+
+def all_lots(names):
+    """Give each list of some of the names in their order, the shorter ones first."""
+    return [list(lot) for size in range(len(names) + 1) for lot in itertools.combinations(names, size)]
 
 
 def lists_in(value):

@@ -18,7 +18,8 @@ class Package(unittest.TestCase):
 
     def test_there_are_files(self):
         names = [name for name, _ in sources()]
-        for name in ["__init__.py", "cover.py", "errors.py", "marks.py", "memory.py", "steps.py", "web.py"]:
+        for name in ["__init__.py", "cover.py", "errors.py", "habits.py", "keeper.py", "marks.py", "memory.py",
+                     "steps.py", "twins.py", "web.py"]:
             self.assertIn(name, names)
 
     def test_only_the_package_itself_is_imported(self):
